@@ -1,0 +1,1 @@
+"""Laid out: records packed into few bits."""
