@@ -19,5 +19,9 @@ class Cursor:
         self.place += 1
         return number
 
+    def end(self):
+        if not self.ended():
+            raise NoValue()
+
     def ended(self):
         return self.place == len(self.numbers)

@@ -1,9 +1,15 @@
-"""The kinds that values are of: their leaves, sizes and forms, and where a value's bits lie.
+"""The kinds that values are of: their leaves, sizes and forms, where a value's bits lie, and which number it has.
 
 Each kind has `leaves`, `flat`, `shared`, `bits` and `spare`, the last two being its form; `how_many` tells how
-many values it has, `one_form` how it is written, `bits_told` what bits the value has that a cursor's numbers tell.
+many values it has, `one_form` how it is written. `bits_told` and `number_told` tell the bits and the number of the
+value that a cursor's numbers tell; `value_with` and `value_at` tell the value with these bits, or this number.
+
+`value_with` is asked with any bits, more than the form has, too: each kind refuses all that are not just a value's.
+So what is not needed has to be 0 wherever it lies: it comes to a number, or is left over behind a row.
+`value_at` is asked only with numbers that values have.
 """
 
+from layouts.cursor import NoValue
 from layouts.spare import bits_for, codes_to_spare, greatest_spare, nothing_spare
 
 
@@ -29,6 +35,17 @@ class Number:
 
     def bits_told(self, cursor):
         return cursor.draw(self.first, self.last) - self.first
+
+    def number_told(self, cursor):
+        return self.bits_told(cursor)
+
+    def value_with(self, bits):
+        if bits >= self.how_many():
+            raise NoValue()
+        return self.value_at(bits)
+
+    def value_at(self, number):
+        return [self.first + number]
 
 
 class Maybe:
@@ -63,6 +80,25 @@ class Maybe:
         if self.tagged:
             return 0
         return self.inner.spare.bits_with(0)
+
+    def number_told(self, cursor):
+        if cursor.draw(0, 1) == 0:
+            return 0
+        return 1 + self.inner.number_told(cursor)
+
+    def value_with(self, bits):
+        if bits == self.bits_of_nothing():
+            return [0]
+        if not self.tagged:
+            return [1] + self.inner.value_with(bits)
+        if bits & 1 == 0:
+            raise NoValue()
+        return [1] + self.inner.value_with(bits >> 1)
+
+    def value_at(self, number):
+        if number == 0:
+            return [0]
+        return [1] + self.inner.value_at(number - 1)
 
 
 class One:
@@ -106,6 +142,32 @@ class One:
             return spare.bits_with(number)
         return spare.bits_with(number - 1)
 
+    def number_told(self, cursor):
+        number = cursor.draw(0, len(self.alternatives) - 1)
+        before = sum([inner.how_many() for inner in self.alternatives[:number]])
+        return before + self.alternatives[number].number_told(cursor)
+
+    def value_with(self, bits):
+        if self.carrier is None:
+            return self.value_with_tag(bits & ((1 << self.tag) - 1), bits >> self.tag)
+        for number, inner in enumerate(self.alternatives):
+            if number != self.carrier and bits == self.bits_beside_carrier(number):
+                return [number] + inner.value_at(0)
+        return [self.carrier] + self.alternatives[self.carrier].value_with(bits)
+
+    def value_with_tag(self, number, bits):
+        if number >= len(self.alternatives):
+            raise NoValue()
+        return [number] + self.alternatives[number].value_with(bits)
+
+    def value_at(self, number):
+        chosen = 0
+        rest = number
+        while rest >= self.alternatives[chosen].how_many():
+            rest -= self.alternatives[chosen].how_many()
+            chosen += 1
+        return [chosen] + self.alternatives[chosen].value_at(rest)
+
 
 # The one alternative with bits whose spare values can tell all others, or None.
 def carrier_of(alternatives):
@@ -141,6 +203,34 @@ class Row:
             bits |= part.bits_told(cursor) << offset
             offset += part.bits
         return bits
+
+    def number_told(self, cursor):
+        number = 0
+        for part in self.parts:
+            number = number * part.how_many() + part.number_told(cursor)
+        return number
+
+    def value_with(self, bits):
+        value = []
+        rest = bits
+        for part in self.parts:
+            value.extend(part.value_with(rest & ((1 << part.bits) - 1)))
+            rest = rest >> part.bits
+        if rest > 0:
+            raise NoValue()
+        return value
+
+    # The last part changes fastest, so the parts' numbers are found from the last one on.
+    def value_at(self, number):
+        found = []
+        rest = number
+        for part in reversed(self.parts):
+            found.append(part.value_at(rest % part.how_many()))
+            rest = rest // part.how_many()
+        value = []
+        for numbers in reversed(found):
+            value.extend(numbers)
+        return value
 
 
 class Many(Row):

@@ -3,18 +3,22 @@
 from layouts.cursor import Cursor, NoValue
 from layouts.faults import Fault
 from layouts.reading import records_of
+from layouts.rows import NotSuchBytes, bytes_told, number_read
 from layouts.spare import bits_for
 
 LOAD = 0
 SIZES = 1
 NICHE = 2
 ENC = 3
+DEC = 4
+PACK = 5
 RANK = 7
 CALLS_OF_A_RECORD = (1, 2, 3, 4, 5, 6)
 CALLS_WITH_A_ROW = (0, 3, 4, 5, 6)
 NO_RECORDS = -1
 NO_SUCH_RECORD = -2
 NO_SUCH_VALUE = -4
+NO_SUCH_BYTES = -5
 
 
 def answers(calls):
@@ -57,7 +61,7 @@ class Holder:
         if not self.records:
             return [NO_RECORDS]
         if number == RANK:
-            raise NotImplementedError("rank is not written yet")
+            return rank(self.records)
         if index < 0 or index >= len(self.records):
             return [NO_SUCH_RECORD]
         return answer_of_record(self.records[index], number, row)
@@ -72,17 +76,34 @@ class Holder:
 
 
 def answer_of_record(record, number, row):
+    try:
+        return told_of_record(record, number, row)
+    except NotSuchBytes:
+        return [NO_SUCH_BYTES]
+    except NoValue:
+        return [NO_SUCH_VALUE]
+
+
+def told_of_record(record, number, row):
     if number == SIZES:
         return [1] + sizes(record)
     if number == NICHE:
         return niche(record)
     if number == ENC:
         return enc(record, row)
-    raise NotImplementedError("dec, pack and unpack are not written yet")
+    if number == DEC:
+        return dec(record, row)
+    if number == PACK:
+        return pack(record, row)
+    return unpack(record, row)
 
 
 def sizes(record):
-    return [record.flat, record.shared, record.bits, bits_for(record.how_many())]
+    return [record.flat, record.shared, record.bits, packed_bits(record)]
+
+
+def packed_bits(record):
+    return bits_for(record.how_many())
 
 
 def niche(record):
@@ -94,16 +115,33 @@ def niche(record):
 
 def enc(record, value):
     cursor = Cursor(value)
-    try:
-        bits = record.bits_told(cursor)
-    except NoValue:
-        return [NO_SUCH_VALUE]
-    if not cursor.ended():
-        return [NO_SUCH_VALUE]
+    bits = record.bits_told(cursor)
+    cursor.end()
     return bytes_told(bits, record.bits)
 
 
-# How many bytes have room for so many bits, and they, the lowest first.
-def bytes_told(number, bits):
-    room = (bits + 7) // 8
-    return [room] + [(number >> (8 * place)) & 255 for place in range(room)]
+def dec(record, row):
+    value = record.value_with(number_read(row, record.bits))
+    return [len(value)] + value
+
+
+def pack(record, value):
+    cursor = Cursor(value)
+    number = record.number_told(cursor)
+    cursor.end()
+    return bytes_told(number, packed_bits(record))
+
+
+def unpack(record, row):
+    number = number_read(row, packed_bits(record))
+    if number >= record.how_many():
+        raise NoValue()
+    value = record.value_at(number)
+    return [len(value)] + value
+
+
+def rank(records):
+    told = [len(records)]
+    for record in records:
+        told.extend(sizes(record))
+    return told

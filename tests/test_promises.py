@@ -1,109 +1,17 @@
 """The promises, over many small kinds and all values of each."""
 
+import itertools
 import unittest
 
-from tests.helper import ask, enc, load, niche, sizes
-
-
-def number(first, last):
-    return ("number", first, last)
-
-
-NUMBERS = [number(5, 5), number(0, 1), number(-1, 1), number(0, 4), number(-3, 3), number(0, 9)]
-
-
-def small_kinds():
-    """Kinds of up to three levels: each as a tuple, named by its first part."""
-    first = list(NUMBERS)
-    first += [("maybe", kind) for kind in NUMBERS]
-    first += [("many", times, kind) for times in (1, 2, 3) for kind in NUMBERS[:4]]
-    first += [("one", [a, b]) for a in NUMBERS[:4] for b in NUMBERS]
-    first += [("one", [a, b, c]) for a in NUMBERS[:2] for b in NUMBERS[:4] for c in (NUMBERS[0], NUMBERS[5])]
-    first += [("one", [NUMBERS[0], a, NUMBERS[0], NUMBERS[0]]) for a in NUMBERS]
-    first += [("record", [a, b]) for a in NUMBERS[1:4] for b in NUMBERS]
-    second = [("maybe", kind) for kind in first]
-    second += [("many", 2, kind) for kind in first if count(kind) < 12]
-    second += [("one", [NUMBERS[0], kind]) for kind in first]
-    second += [("one", [kind, NUMBERS[0], NUMBERS[0]]) for kind in first]
-    second += [("record", [number(0, 2), kind, kind]) for kind in first if count(kind) < 12]
-    third = [("maybe", kind) for kind in second[::3]]
-    third += [("one", [NUMBERS[0], kind, NUMBERS[0]]) for kind in second[::3]]
-    third += [("one", [kind, NUMBERS[2]]) for kind in second[::5]]
-    return first + second + third
-
-
-def count(kind):
-    return len(values(kind))
-
-
-def values(kind):
-    """All values, in the document's order."""
-    if kind[0] == "number":
-        return [[value] for value in range(kind[1], kind[2] + 1)]
-    if kind[0] == "maybe":
-        return [[0]] + [[1] + value for value in values(kind[1])]
-    if kind[0] == "one":
-        return [[n] + value for n, inner in enumerate(kind[1]) for value in values(inner)]
-    found = [[]]
-    for part in [kind[2]] * kind[1] if kind[0] == "many" else kind[1]:
-        found = [head + tail for head in found for tail in values(part)]
-    return found
-
-
-def written(kind, records):
-    """The kind's text; a record's own text is put behind those told before."""
-    if kind[0] == "number":
-        return f"from {kind[1]} to {kind[2]}"
-    if kind[0] == "maybe":
-        return "maybe " + written(kind[1], records)
-    if kind[0] == "many":
-        return f"many {kind[1]} " + written(kind[2], records)
-    parts = [(f"x{n} : ", written(part, records)) for n, part in enumerate(kind[1])]
-    if kind[0] == "one":
-        return "one { " + " , ".join(name + part for name, part in parts) + " }"
-    name = f"R{len(records)}"
-    records.append("record " + name + " { " + " ".join(name + part + " ;" for name, part in parts) + " } ")
-    return name
-
-
-def shared(kind):
-    """Told here anew from the document's words, as flat below."""
-    if kind[0] == "number":
-        return max(1, (kind[2] - kind[1]).bit_length())
-    if kind[0] == "maybe":
-        return 1 + shared(kind[1])
-    if kind[0] == "many":
-        return kind[1] * shared(kind[2])
-    if kind[0] == "one":
-        return (len(kind[1]) - 1).bit_length() + max(shared(part) for part in kind[1])
-    return sum(shared(part) for part in kind[1])
-
-
-def flat(kind):
-    if kind[0] == "one":
-        return (len(kind[1]) - 1).bit_length() + sum(flat(part) for part in kind[1])
-    if kind[0] == "maybe":
-        return 1 + flat(kind[1])
-    if kind[0] == "many":
-        return kind[1] * flat(kind[2])
-    if kind[0] == "record":
-        return sum(flat(part) for part in kind[1])
-    return shared(kind)
+from tests.helper import dec, enc, niche, pack, rank, sizes, unpack
+from tests.model import ask_all, count, flat, number, row_of, shared, small_kinds, text_of, values
 
 
 def measured(kind):
-    """Sizes, niche, and the bits of all values as numbers."""
-    records = []
-    text = written(kind, records)
-    told = "".join(records) + "record Last { f : " + text + " ; }"
-    r = len(records)
-    calls = [enc(r, *value) for value in values(kind)]
-    head = ask(load(told), sizes(r), niche(r))
-    assert head[0][0] == 1, told
-    bits = []
-    for place in range(0, len(calls), 90):
-        bits.extend(ask(load(told), *calls[place:place + 90])[1:])
-    return told, head[1], head[2], bits
+    """Sizes, niche, and the answers of enc for all values."""
+    text, r = text_of(kind)
+    told = ask_all(text, [sizes(r), niche(r)] + [enc(r, *value) for value in values(kind)])
+    return text, told[0], told[1], told[2:]
 
 
 class Promises(unittest.TestCase):
@@ -113,6 +21,7 @@ class Promises(unittest.TestCase):
         for kind in kinds:
             text, four, spare, told = measured(kind)
             with self.subTest(text=text):
+                self.assertEqual(len(told), count(kind))
                 self.check_sizes(kind, four)
                 self.check_bits(four[3], told)
                 self.check_spare(four[3], spare, told)
@@ -145,6 +54,71 @@ class Promises(unittest.TestCase):
         for row in told:
             there = int.from_bytes(bytes(row[1:]), "little") >> at & (2 ** width - 1)
             self.assertFalse(first <= there < first + many)
+
+
+class ReadBack(unittest.TestCase):
+    """Every list of bytes of the right length: a value just where enc of it answers these, else -4."""
+
+    def check_all_bytes(self, kind):
+        text, r = text_of(kind)
+        of_row = {}
+        for value, told in zip(values(kind), ask_all(text, [enc(r, *value) for value in values(kind)])):
+            of_row[tuple(told[1:])] = [len(value)] + value
+            room = told[0]
+        rows = list(itertools.product(range(256), repeat=room))
+        found = ask_all(text, [dec(r, *row) for row in rows])
+        for row, told in zip(rows, found):
+            self.assertEqual(told, of_row.get(row, [-4]), (text, row))
+        self.assertEqual(sum(told != [-4] for told in found), count(kind))
+
+    def test_small_kinds_of_no_byte_and_of_one(self):
+        checked = 0
+        for kind in small_kinds():
+            text, r = text_of(kind)
+            if ask_all(text, [sizes(r)])[0][3] <= 8:
+                self.check_all_bytes(kind)
+                checked += 1
+        self.assertGreater(checked, 200)
+
+    def test_some_of_two_bytes(self):
+        few = number(0, 4)
+        pair = ("record", [number(0, 3), few, number(0, 7)])
+        for kind in (
+            ("many", 3, ("maybe", few)),
+            ("maybe", ("maybe", ("record", [number(0, 127), few, number(0, 1)]))),
+            ("one", [number(6, 6), ("many", 2, pair), ("many", 1, number(6, 6))]),
+            ("one", [("many", 2, few), pair, number(6, 6)]),
+        ):
+            self.check_all_bytes(kind)
+
+
+class Packed(unittest.TestCase):
+    """All values are numbered from 0, in order, and told in the fewest bits."""
+
+    def test_small_kinds(self):
+        for kind in small_kinds():
+            told = values(kind)
+            text, r = text_of(kind)
+            bits = ask_all(text, [sizes(r)])[0][4]
+            rows = [row_of(place, bits) for place in range(len(told))]
+            with self.subTest(text=text):
+                self.assertEqual(ask_all(text, [pack(r, *value) for value in told]), [[len(row)] + row for row in rows])
+                self.assertEqual(ask_all(text, [unpack(r, *row) for row in rows]),
+                                 [[len(value)] + value for value in told])
+                self.check_beyond(text, r, len(told), bits)
+
+    def check_beyond(self, text, r, many, bits):
+        greatest = 256 ** ((bits + 7) // 8) - 1
+        calls = [unpack(r, *row_of(place, bits)) for place in (many, many + 1, greatest) if many <= place <= greatest]
+        self.assertEqual(ask_all(text, calls), [[-4]] * len(calls))
+
+
+class Ranked(unittest.TestCase):
+    def test_small_kinds(self):
+        for kind in small_kinds()[::7]:
+            text, r = text_of(kind)
+            told = ask_all(text, [rank()] + [sizes(n) for n in range(r + 1)])
+            self.assertEqual(told[0], [r + 1] + [size for four in told[1:] for size in four[1:]])
 
 
 if __name__ == "__main__":
